@@ -1,0 +1,1 @@
+"""Onesheetmore: pieces from sheets, by sizes that divide one another."""

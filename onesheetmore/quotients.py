@@ -1,0 +1,48 @@
+"""Reckoning with quotients."""
+
+from math import gcd
+
+from onesheetmore.common import need
+from onesheetmore.kinds import is_quotient
+
+
+def reduced(top, bottom):
+    """The quotient that stands for top / bottom; bottom is at least 1."""
+    divisor = gcd(top, bottom)
+    return (top // divisor, bottom // divisor)
+
+
+def need_both(one, other):
+    """Refuse the first of the two that is no quotient."""
+    need("one", is_quotient(one))
+    need("other", is_quotient(other))
+
+
+def plus(one, other):
+    """The sum of two quotients."""
+    need_both(one, other)
+    return reduced(one[0] * other[1] + other[0] * one[1], one[1] * other[1])
+
+
+def minus(one, other):
+    """The quotient one less other."""
+    need_both(one, other)
+    return reduced(one[0] * other[1] - other[0] * one[1], one[1] * other[1])
+
+
+def times(one, other):
+    """The product of two quotients."""
+    need_both(one, other)
+    return reduced(one[0] * other[0], one[1] * other[1])
+
+
+def is_less(one, other):
+    """True if one is less than other, else False."""
+    need_both(one, other)
+    return one[0] * other[1] < other[0] * one[1]
+
+
+def whole_of(one):
+    """The quotient, rounded down."""
+    need("one", is_quotient(one))
+    return one[0] // one[1]

@@ -1,0 +1,153 @@
+"""Rules of the language subset that the files themselves can show."""
+
+import ast
+import builtins
+import re
+import unittest
+from pathlib import Path
+
+PACKAGE = Path(__file__).resolve().parent.parent / "onesheetmore"
+FILES = sorted(PACKAGE.rglob("*.py"))
+LIBRARY = {"math": {"gcd"}}
+BUILTINS = {
+    "len", "range", "enumerate", "zip", "min", "max", "sum", "abs", "sorted", "reversed", "int", "str", "bool", "list",
+    "tuple", "dict", "set", "isinstance", "repr", "any", "all", "divmod", "ValueError"}
+METHODS = {"append", "get", "join", "partition", "split"}
+DUNDERS = {"__init__", "__eq__", "__len__", "__add__", "__sub__", "__contains__"}
+STATEMENTS = (
+    ast.Assign, ast.If, ast.While, ast.For, ast.Return, ast.Break, ast.Continue, ast.Pass, ast.Raise, ast.Expr,
+    ast.FunctionDef, ast.ClassDef, ast.ImportFrom)
+BARRED_EXPRESSIONS = (
+    ast.GeneratorExp, ast.Lambda, ast.NamedExpr, ast.Await, ast.Div, ast.Pow, ast.MatMult)
+BARRED_WORDS = re.compile(
+    r"\b(type|typing|typing_extensions|enum|Enum|IntEnum|StrEnum|Flag|IntFlag|Generic|Protocol|ABC|ABCMeta|namedtuple"
+    r"|NamedTuple|TypedDict|TYPE_CHECKING|abstractmethod|register|mro|elements|open|input|law|version_info)\b")
+
+
+def trees():
+    for path in FILES:
+        text = path.read_text(encoding="utf-8")
+        yield path, text, ast.parse(text)
+
+
+def bound_names(tree):
+    """Names that parameters, assignments, loops, functions and classes bind."""
+    for node in ast.walk(tree):
+        if isinstance(node, ast.arg):
+            yield node.arg
+        elif isinstance(node, ast.Name) and not isinstance(node.ctx, ast.Load):
+            yield node.id
+        elif isinstance(node, ast.ClassDef):
+            yield node.name
+
+
+def imports_of(tree):
+    return [node for node in tree.body if isinstance(node, ast.ImportFrom)]
+
+
+class LanguageTest(unittest.TestCase):
+    def test_files(self):
+        self.assertIn(PACKAGE / "__init__.py", FILES)
+        self.assertLessEqual(len(FILES), 100)
+        for path in PACKAGE.rglob("*"):
+            if path.name != "__pycache__" and path.parent.name != "__pycache__":
+                self.assertTrue(path.suffix == ".py" and path.parent == PACKAGE, path)
+
+    def test_sizes_and_characters(self):
+        for path, text, tree in trees():
+            lines = text.split("\n")
+            self.assertLessEqual(len(lines), 399, path)
+            self.assertLessEqual(max([len(line) for line in lines]), 120, path)
+            self.assertTrue(all([char == "\n" or " " <= char <= "~" for char in text]), path)
+            for node in ast.walk(tree):
+                if isinstance(node, ast.FunctionDef):
+                    self.assertLessEqual(node.end_lineno - node.lineno + 1, 40, (path, node.name))
+
+    def test_imports(self):
+        graph = {}
+        for path, _, tree in trees():
+            graph[path.stem] = set()
+            nodes = [node for node in ast.walk(tree) if isinstance(node, (ast.Import, ast.ImportFrom))]
+            self.assertEqual(nodes, imports_of(tree), path)
+            for node in nodes:
+                self.assertTrue(all([alias.asname is None for alias in node.names]) and node.level == 0, path)
+                names = {alias.name for alias in node.names}
+                if node.module in LIBRARY:
+                    self.assertLessEqual(names, LIBRARY[node.module], path)
+                    continue
+                package, _, source = node.module.partition(".")
+                self.assertEqual(package, "onesheetmore", path)
+                graph[path.stem].add(source)
+                defined = ast.parse((PACKAGE / (source + ".py")).read_text(encoding="utf-8")).body
+                self.assertLessEqual(names, {one.name for one in defined if hasattr(one, "name")}, path)
+                used = {one.id for one in ast.walk(tree) if isinstance(one, ast.Name)}
+                self.assertLessEqual(names, used, path)
+        while graph:
+            free = [name for name in graph if not graph[name] & set(graph)]
+            self.assertTrue(free, "files import from each other: " + ", ".join(sorted(graph)))
+            for name in free:
+                del graph[name]
+
+    def test_statements_and_expressions(self):
+        for path, _, tree in trees():
+            for node in ast.walk(tree):
+                if isinstance(node, ast.stmt):
+                    self.assertIsInstance(node, STATEMENTS, (path, node.lineno))
+                self.assertNotIsInstance(node, BARRED_EXPRESSIONS, (path, getattr(node, "lineno", 0)))
+                if isinstance(node, ast.Constant):
+                    self.assertNotIsInstance(node.value, (float, bytes))
+                    self.assertNotIn("%", str(node.value))
+                if isinstance(node, (ast.FunctionDef, ast.ClassDef)):
+                    self.assertEqual(node.decorator_list, [])
+                    self.assertTrue(node.name in DUNDERS or ast.get_docstring(node), (path, node.name))
+            for node in tree.body:
+                self.assertIsInstance(node, (ast.Expr, ast.ImportFrom, ast.FunctionDef, ast.ClassDef, ast.Assign), path)
+
+    def test_is_stands_beside_none(self):
+        for path, _, tree in trees():
+            for node in ast.walk(tree):
+                if isinstance(node, ast.Compare) and isinstance(node.ops[0], (ast.Is, ast.IsNot)):
+                    right = node.comparators[0]
+                    self.assertTrue(isinstance(right, ast.Constant) and right.value is None, (path, node.lineno))
+
+    def test_names(self):
+        for path, text, tree in trees():
+            imported = {alias.name for node in imports_of(tree) for alias in node.names}
+            bound = list(bound_names(tree))
+            self.assertFalse(set(bound) & (imported | set(dir(builtins))), path)
+            functions = [node.name for node in tree.body if isinstance(node, (ast.FunctionDef, ast.ClassDef))]
+            self.assertEqual(len(functions), len(set(functions)), path)
+            self.assertFalse((set(functions) & (imported | set(dir(builtins)))), path)
+            self.assertFalse(set(functions) & {name for name in bound if name not in functions}, path)
+            code = "\n".join([line.partition("#")[0] for line in re.sub(r'"""[^"]*"""', "", text).split("\n")])
+            self.assertIsNone(BARRED_WORDS.search(code), path)
+            for name in set(bound + functions):
+                self.assertRegex(name, "^(_|_?[A-Za-z][A-Za-z0-9_]*)$")
+                self.assertNotRegex(name, "^_(wall|pe_|dcw_|enum_|cm_|twin_re_|lay_|law_|stub_|sre)")
+
+    def test_calls(self):
+        own_methods = {node.name for _, _, tree in trees() for owner in tree.body if isinstance(owner, ast.ClassDef)
+                       for node in owner.body if isinstance(node, ast.FunctionDef)}
+        for path, _, tree in trees():
+            known = {alias.name for node in imports_of(tree) for alias in node.names}
+            known |= {node.name for node in tree.body if isinstance(node, (ast.FunctionDef, ast.ClassDef))}
+            for node in ast.walk(tree):
+                if isinstance(node, ast.Call) and isinstance(node.func, ast.Name):
+                    self.assertIn(node.func.id, known | BUILTINS, (path, node.lineno))
+                if isinstance(node, ast.Call) and isinstance(node.func, ast.Attribute):
+                    self.assertIn(node.func.attr, METHODS | own_methods, (path, node.lineno))
+                if isinstance(node, ast.FunctionDef) and node.name.startswith("__"):
+                    self.assertIn(node.name, DUNDERS, path)
+
+    def test_sets_are_sorted_at_once(self):
+        for path, _, tree in trees():
+            inside = {id(node.args[0]) for node in ast.walk(tree) if isinstance(node, ast.Call) and node.args
+                      and isinstance(node.func, ast.Name) and node.func.id in ("sorted", "len")}
+            for node in ast.walk(tree):
+                is_set = isinstance(node, (ast.Set, ast.SetComp)) or (
+                    isinstance(node, ast.Call) and isinstance(node.func, ast.Name) and node.func.id == "set")
+                self.assertFalse(is_set and id(node) not in inside, (path, getattr(node, "lineno", 0)))
+
+
+if __name__ == "__main__":
+    unittest.main()
