@@ -57,7 +57,7 @@ def read_lot(lists, text):
     for i, word in enumerate(words_of(text)):
         entry = triple_in(word, ",")
         # The entry ahead of it alone tells whether the new one fits.
-        if entry is None or lot_fault(lists, (*lot[-1:], entry)) is not None:
+        if lot_fault(lists, (*lot[-1:], entry)) is not None:
             raise InvalidText(0, i)
         lot.append(entry)
     return tuple(lot)

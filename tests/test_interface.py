@@ -24,6 +24,28 @@ FUNCTIONS = {
     "wholes": ["useful_width(lists, sheet)", "useful_height(lists, sheet)", "is_whole_across(lists, sheet)",
                "is_whole_up(lists, sheet)", "whole_ways(lists, sheet)", "is_whole_stock(lists, stock)",
                "is_whole_for(lists, sheet, lot)"],
+    "shares": ["share_count(lists, sheet, a, b)", "columns_in(lists, width)", "bands_in(lists, height)",
+               "top_shares(lists, sheet)", "stock_shares(lists, stock, a, b)"],
+    "sharespots": ["ground_of(lists, a, b, column, row)", "is_share(lists, sheet, a, b, column, row)",
+                   "share_over(lists, kind, column, row, wide, high)",
+                   "share_under(lists, kind, column, row, wide, high)",
+                   "top_over(lists, sheet, a, b, column, row)"],
+    "numbering": ["share_number(lists, sheet, a, b, column, row)", "share_by_number(lists, sheet, a, b, number)"],
+    "boxes": ["is_box(lists, stock, thing)", "box_count(lists, stock, box)", "box_ground(lists, stock, box)",
+              "boxes_meet(lists, stock, box, other)", "box_first(lists, stock, box, many)",
+              "box_finer(lists, stock, box, a, b)"],
+    "stockboxes": ["whole_boxes(lists, stock)"],
+    "wheels": ["wheel_lot(lists, sheet)", "wheel_spread(lists, sheet)", "wheel_refusal(lists, sheet)"],
+    "rooms": ["rooms_by_heights(lists, stock, lot)", "rooms_by_widths(lists, stock, lot)"],
+    "staircases": ["is_staircase(lists, thing)", "staircases_of(lists, way)", "counted_by(lists, staircase)",
+                   "staircase_of(lists, kinds, way)", "other_way(lists, staircase)", "own_sizes(lists, staircase)"],
+    "readings": ["reading(lists, stock, lot, staircase)", "refuses(lists, stock, lot, staircase)"],
+    "verdicts": ["goes_in(lists, stock, lot)", "refusal(lists, stock, lot)", "refusal_by_widths(lists, stock, lot)",
+                 "tells_no(lists, stock, lot, staircase)", "telling_no(lists, stock, lot)",
+                 "verdict(lists, stock, lot)"],
+    "refusalchecker": ["lets_refusal(lists, stock, lot, thing)"],
+    "further": ["most_more(lists, stock, lot, a, b)", "leading_sheets(lists, stock, lot)",
+                "spare_sheets(lists, stock, lot)"],
 }
 
 CLASSES = {
@@ -38,6 +60,14 @@ CLASSES = {
         "Lot": ["__init__(self, lists, lot)", "__add__(self, other)", "__sub__(self, other)", "__eq__(self, other)",
                 "__contains__(self, thing)", "__len__(self)", "area(self)", "pieces(self)", "times(self, many)",
                 "split(self, kind, lesser, many)", "entries(self)"]},
+    "shareclasses": {
+        "Shares": ["__init__(self, lists, sheet)", "ways(self)", "useful(self)", "top(self)", "wheel(self)",
+                   "count(self, a, b)", "number(self, a, b, column, row)", "by_number(self, a, b, number)",
+                   "over(self, a, b, column, row)"]},
+    "roomclasses": {
+        "Rooms": ["__init__(self, lists, stock, lot)", "by_heights(self)", "by_widths(self)", "goes(self)",
+                  "refusal(self)", "verdict(self)", "more(self, a, b)", "with_lot(self, lot)",
+                  "with_stock(self, stock)"]},
 }
 
 

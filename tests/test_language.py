@@ -19,9 +19,19 @@ STATEMENTS = (
     ast.FunctionDef, ast.ClassDef, ast.ImportFrom)
 BARRED_EXPRESSIONS = (
     ast.GeneratorExp, ast.Lambda, ast.NamedExpr, ast.Await, ast.Div, ast.Pow, ast.MatMult)
-BARRED_WORDS = re.compile(
-    r"\b(type|typing|typing_extensions|enum|Enum|IntEnum|StrEnum|Flag|IntFlag|Generic|Protocol|ABC|ABCMeta|namedtuple"
-    r"|NamedTuple|TypedDict|TYPE_CHECKING|abstractmethod|register|mro|elements|open|input|law|version_info)\b")
+BARRED_NAMES = {
+    "register", "mro", "elements", "open", "input", "law", "version_info", "with_traceback", "add_note", "attrgetter",
+    "builtins", "gc", "importlib", "methodcaller", "os", "sys", "_cold", "_outside", "_record"}
+BARRED_WORDS = {
+    "type", "typing", "typing_extensions", "enum", "Enum", "IntEnum", "StrEnum", "Flag", "IntFlag", "Generic", "Protocol",
+    "ABC", "ABCMeta", "namedtuple", "NamedTuple", "TypedDict", "TYPE_CHECKING", "abstractmethod"}
+
+
+def docstrings_of(tree):
+    """The nodes of the docstrings of the file, its classes and functions."""
+    for node in ast.walk(tree):
+        if isinstance(node, (ast.Module, ast.ClassDef, ast.FunctionDef)) and ast.get_docstring(node) is not None:
+            yield node.body[0].value
 
 
 def trees():
@@ -111,7 +121,7 @@ class LanguageTest(unittest.TestCase):
                     self.assertTrue(isinstance(right, ast.Constant) and right.value is None, (path, node.lineno))
 
     def test_names(self):
-        for path, text, tree in trees():
+        for path, _, tree in trees():
             imported = {alias.name for node in imports_of(tree) for alias in node.names}
             bound = list(bound_names(tree))
             self.assertFalse(set(bound) & (imported | set(dir(builtins))), path)
@@ -119,8 +129,15 @@ class LanguageTest(unittest.TestCase):
             self.assertEqual(len(functions), len(set(functions)), path)
             self.assertFalse((set(functions) & (imported | set(dir(builtins)))), path)
             self.assertFalse(set(functions) & {name for name in bound if name not in functions}, path)
-            code = "\n".join([line.partition("#")[0] for line in re.sub(r'"""[^"]*"""', "", text).split("\n")])
-            self.assertIsNone(BARRED_WORDS.search(code), path)
+            used = {node.attr for node in ast.walk(tree) if isinstance(node, ast.Attribute)}
+            used |= {node.arg for node in ast.walk(tree) if isinstance(node, ast.keyword)}
+            used |= {node.id for node in ast.walk(tree) if isinstance(node, ast.Name)}
+            used |= {node.name for node in ast.walk(tree) if isinstance(node, ast.FunctionDef)}
+            self.assertFalse((used | set(bound)) & (BARRED_NAMES | BARRED_WORDS), path)
+            docstrings = list(docstrings_of(tree))
+            for node in ast.walk(tree):
+                if isinstance(node, ast.Constant) and isinstance(node.value, str) and node not in docstrings:
+                    self.assertFalse(set(re.findall("[A-Za-z_]+", node.value)) & (BARRED_WORDS - {"type"}), path)
             for name in set(bound + functions):
                 self.assertRegex(name, "^(_|_?[A-Za-z][A-Za-z0-9_]*)$")
                 self.assertNotRegex(name, "^_(wall|pe_|dcw_|enum_|cm_|twin_re_|lay_|law_|stub_|sre)")

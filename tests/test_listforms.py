@@ -62,6 +62,9 @@ class ListformsTest(unittest.TestCase):
         check_refusals(self, cut_lists, {"lists": THREE, "wide": 1, "high": 3}, {
             "wide": lambda thing: samples.is_count(thing) and thing <= 3,
             "high": lambda thing: samples.is_count(thing) and thing <= 3})
+        check_refusals(self, cut_lists, {"lists": ((1, 2, 4, 8), (1,)), "wide": 2, "high": 1}, {
+            "wide": lambda thing: samples.is_count(thing) and thing <= 4,
+            "high": lambda thing: samples.is_count(thing) and thing <= 1})
         check_calls(self, cut_lists, {"lists": THREE, "wide": 1, "high": 3})
         check_calls(self, turned_kinds, {"lists": THREE, "kinds": ((0, 1), (1, 0))})
         check_calls(self, turned_lists, {"lists": THREE})

@@ -50,6 +50,7 @@ class LotTest(unittest.TestCase):
         for thing in ANY + changed((0, 1)) + changed((1, 0)) + list(ROUND) + [(2, 2), (3, 0), (0, 3), some]:
             self.assertIs(thing in some, is_kind(THREE, thing) and thing in ((0, 1), (1, 0)))
         self.assertTrue((0, 1) in some and (1, 0) in some)
+        self.assertTrue((2, 2) in Lot(THREE, ((2, 2, 1),)))
         self.assertFalse((False, True) in some or [0, 1] in some)
 
     def test_refusals(self):

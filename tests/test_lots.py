@@ -69,6 +69,16 @@ class LotsTest(unittest.TestCase):
             else:
                 self.assertEqual(refusal_of(lambda: split_kind(THREE, given, kind, lesser, 1)), ("lesser", -1))
 
+    def test_rows_of_unlike_sizes(self):
+        lists = ((2, 4, 20), (3, 27))
+        self.assertEqual(split_kind(lists, ((2, 1, 2),), (2, 1), (1, 0), 2), ((1, 0, 90),))
+        self.assertEqual(split_kind(lists, ((1, 1, 1), (2, 0, 1)), (2, 0), (0, 0), 1), ((0, 0, 10), (1, 1, 1)))
+        self.assertEqual(area_of(lists, ((0, 1, 1), (2, 0, 1))), 54 + 60)
+        given = {"lists": lists, "lot": ((0, 1, 1), (2, 0, 5)), "a": 2, "b": 0}
+        self.assertEqual(count_in(**given), 5)
+        check_refusals(self, count_in, given, {
+            "lot": samples.is_lot(lists), "a": samples.is_below(3), "b": samples.is_below(2)})
+
     def test_refusals(self):
         lot = samples.is_lot(TWO)
         index = samples.is_below(2)

@@ -43,6 +43,7 @@ class StocksTest(unittest.TestCase):
         for stock in (STOCK, MIXED, ()):
             for many in range(sheets_in(stock) + 1):
                 first = first_sheets_of(stock, many)
+                self.assertTrue(samples.is_stock(first))
                 self.assertEqual(sheets_of(first), sheets_of(stock)[:many])
                 self.assertEqual(first, tuple([(*one[:2], two[2]) for one, two in zip(stock, first)]))
         self.assertEqual(first_sheets_of(((1, 1, THIRTY), (2, 2, 5)), THIRTY + 1), ((1, 1, THIRTY), (2, 2, 1)))
