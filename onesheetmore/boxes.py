@@ -4,6 +4,11 @@ from onesheetmore.common import need
 from onesheetmore.kinds import is_index, is_kind, is_number, is_span, is_tuple_of
 
 
+def is_among(span, number):
+    """True if the number is one of the span's, else False."""
+    return span[0] <= number < span[0] + span[1]
+
+
 def is_span_within(thing, many):
     """True if thing is a span of numbers below many, else False."""
     return is_span(thing) and thing[0] + thing[1] <= many
@@ -20,11 +25,16 @@ def is_box(lists, stock, thing):
     return is_span_within(rows, height // lists[1][b])
 
 
+def shares_of(box):
+    """How many shares there are in what is known to be a box."""
+    _, _, _, sheets, columns, rows = box
+    return sheets[1] * columns[1] * rows[1]
+
+
 def box_count(lists, stock, box):
     """How many shares the box has."""
     need("box", is_box(lists, stock, box))
-    _, _, _, sheets, columns, rows = box
-    return sheets[1] * columns[1] * rows[1]
+    return shares_of(box)
 
 
 def span_ground(span, size):
@@ -32,24 +42,34 @@ def span_ground(span, size):
     return (span[0] * size, (span[0] + span[1]) * size)
 
 
-def box_ground(lists, stock, box):
-    """The (sort, first sheet, last sheet, left, bottom, right, top) of the box."""
-    need("box", is_box(lists, stock, box))
+def ground_in(lists, box):
+    """As box_ground, of what is known to be a box."""
     a, b, sort, sheets, columns, rows = box
     left, right = span_ground(columns, lists[0][a])
     bottom, top = span_ground(rows, lists[1][b])
     return (sort, sheets[0], sheets[0] + sheets[1] - 1, left, bottom, right, top)
 
 
+def grounds_meet(ground, its_ground):
+    """True if two grounds as from box_ground have more than a border in common, else False."""
+    sort, first, last, left, bottom, right, top = ground
+    its_sort, its_first, its_last, its_left, its_bottom, its_right, its_top = its_ground
+    if sort != its_sort or first > its_last or its_first > last:
+        return False
+    return left < its_right and its_left < right and bottom < its_top and its_bottom < top
+
+
+def box_ground(lists, stock, box):
+    """The (sort, first sheet, last sheet, left, bottom, right, top) of the box."""
+    need("box", is_box(lists, stock, box))
+    return ground_in(lists, box)
+
+
 def boxes_meet(lists, stock, box, other):
     """True if the two boxes have ground in common in a sheet, else False."""
     need("box", is_box(lists, stock, box))
     need("other", is_box(lists, stock, other))
-    sort, first, last, left, bottom, right, top = box_ground(lists, stock, box)
-    its_sort, its_first, its_last, its_left, its_bottom, its_right, its_top = box_ground(lists, stock, other)
-    if sort != its_sort or first > its_last or its_first > last:
-        return False
-    return left < its_right and its_left < right and bottom < its_top and its_bottom < top
+    return grounds_meet(ground_in(lists, box), ground_in(lists, other))
 
 
 def span_parts(span, many):
@@ -63,10 +83,8 @@ def boxes_with(start, parts):
     return tuple([(*start, *part) for part in parts if min([many for _, many in part]) > 0])
 
 
-def box_first(lists, stock, box, many):
-    """Boxes of the first many shares of the box, and boxes of the others."""
-    need("box", is_box(lists, stock, box))
-    need("many", is_number(many) and many <= box_count(lists, stock, box))
+def parted(box, many):
+    """As box_first, of what is known to be a box with so many shares."""
     a, b, sort, sheets, columns, rows = box
     whole_sheets, over = many // (columns[1] * rows[1]), many % (columns[1] * rows[1])
     whole_columns, single = over // rows[1], over % rows[1]
@@ -83,12 +101,24 @@ def box_first(lists, stock, box, many):
     return (boxes_with((a, b, sort), first), boxes_with((a, b, sort), others))
 
 
-def box_finer(lists, stock, box, a, b):
-    """The box of all shares (a, b) within the box."""
+def box_first(lists, stock, box, many):
+    """Boxes of the first many shares of the box, and boxes of the others."""
     need("box", is_box(lists, stock, box))
+    need("many", is_number(many) and many <= shares_of(box))
+    return parted(box, many)
+
+
+def finer(lists, box, a, b):
+    """As box_finer, of what is known to be a box of no narrower and no lower kind."""
     wide, high, sort, sheets, columns, rows = box
-    need("a", is_index(a, wide + 1))
-    need("b", is_index(b, high + 1))
     across = lists[0][wide] // lists[0][a]
     up = lists[1][high] // lists[1][b]
     return (a, b, sort, sheets, (columns[0] * across, columns[1] * across), (rows[0] * up, rows[1] * up))
+
+
+def box_finer(lists, stock, box, a, b):
+    """The box of all shares (a, b) within the box."""
+    need("box", is_box(lists, stock, box))
+    need("a", is_index(a, box[0] + 1))
+    need("b", is_index(b, box[1] + 1))
+    return finer(lists, box, a, b)

@@ -1,4 +1,4 @@
-"""What many files need: refusing a parameter, and merging triples."""
+"""What many files need: refusing a parameter, rounding up, merging triples."""
 
 from onesheetmore.errors import NotUsable
 
@@ -7,6 +7,11 @@ def need(word, is_as_stated):
     """Raise NotUsable(word, -1) unless the parameter of that name is as stated."""
     if not is_as_stated:
         raise NotUsable(word, -1)
+
+
+def rounded_up(top, bottom):
+    """top / bottom, rounded up; bottom is at least 1."""
+    return -(-top // bottom)
 
 
 def merged(triples):

@@ -12,6 +12,16 @@ def reduced(top, bottom):
     return (top // divisor, bottom // divisor)
 
 
+def is_below(one, other):
+    """As is_less, of what are known to be quotients."""
+    return one[0] * other[1] < other[0] * one[1]
+
+
+def raised(one, many):
+    """What is known to be a quotient, and an integer added."""
+    return (one[0] + many * one[1], one[1])
+
+
 def need_both(one, other):
     """Refuse the first of the two that is no quotient."""
     need("one", is_quotient(one))
@@ -39,7 +49,7 @@ def times(one, other):
 def is_less(one, other):
     """True if one is less than other, else False."""
     need_both(one, other)
-    return one[0] * other[1] < other[0] * one[1]
+    return is_below(one, other)
 
 
 def whole_of(one):

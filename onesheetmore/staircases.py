@@ -68,7 +68,7 @@ def staircase_of(lists, kinds, way):
     for a, b in kinds:
         own, step = (b, a) if way == "heights" else (a, b)
         least[own] = min(step, least.get(own, step))
-    return (way, tuple([least[own] for own in sorted(least, reverse=True)]))
+    return (way, tuple([least[down] for down in sorted(least, reverse=True)]))
 
 
 def other_way(lists, staircase):

@@ -1,7 +1,18 @@
 """Reckoning with stocks."""
 
 from onesheetmore.common import lessened, merged, need
-from onesheetmore.kinds import is_number, is_stock
+from onesheetmore.kinds import is_index, is_number, is_stock
+
+
+def need_sheet(stock, sort, sheet):
+    """Refuse the first of sort and sheet that is no index of the stock's."""
+    need("sort", is_index(sort, len(stock)))
+    need("sheet", is_index(sheet, stock[sort][2]))
+
+
+def stock_of(sheet, many):
+    """The stock of so many such sheets; () for 0."""
+    return () if many == 0 else ((*sheet, many),)
 
 
 def sheets_in(stock):

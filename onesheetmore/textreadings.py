@@ -21,11 +21,16 @@ def number_in(word):
     return int(word)
 
 
+def pair_in(word, sign):
+    """The two numbers of a word that writes them with sign between; None for one that is not written so."""
+    first, _, second = word.partition(sign)
+    return (number_in(first), number_in(second))
+
+
 def triple_in(word, sign):
     """The three numbers of a word that writes the first two with sign between, or None."""
     left, _, many = word.partition("*")
-    first, _, second = left.partition(sign)
-    numbers = (number_in(first), number_in(second), number_in(many))
+    numbers = (*pair_in(left, sign), number_in(many))
     if None in numbers:
         return None
     return numbers

@@ -1,7 +1,7 @@
 """Useful sides of sheets, and sheets that are whole one way."""
 
 from onesheetmore.common import need
-from onesheetmore.kinds import is_lot
+from onesheetmore.kinds import is_lot, is_sheet
 from onesheetmore.listforms import used_lists
 
 
@@ -53,3 +53,13 @@ def is_whole_for(lists, sheet, lot):
     need("lot", is_lot(lists, lot))
     used, _ = used_lists(lists, lot)
     return whole_ways(used, sheet) != "neither"
+
+
+def is_roomy(lists, thing):
+    """True if thing is a sheet that holds a block, else False."""
+    return is_sheet(thing) and thing[0] >= lists[0][-1] and thing[1] >= lists[1][-1]
+
+
+def need_roomy(lists, sheet):
+    """Refuse a parameter called sheet that is no roomy sheet."""
+    need("sheet", is_roomy(lists, sheet))

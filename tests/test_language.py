@@ -12,7 +12,7 @@ LIBRARY = {"math": {"gcd"}}
 BUILTINS = {
     "len", "range", "enumerate", "zip", "min", "max", "sum", "abs", "sorted", "reversed", "int", "str", "bool", "list",
     "tuple", "dict", "set", "isinstance", "repr", "any", "all", "divmod", "ValueError"}
-METHODS = {"append", "get", "join", "partition", "split"}
+METHODS = {"append", "extend", "get", "join", "partition", "split"}
 DUNDERS = {"__init__", "__eq__", "__len__", "__add__", "__sub__", "__contains__"}
 STATEMENTS = (
     ast.Assign, ast.If, ast.While, ast.For, ast.Return, ast.Break, ast.Continue, ast.Pass, ast.Raise, ast.Expr,
@@ -155,6 +155,16 @@ class LanguageTest(unittest.TestCase):
                     self.assertIn(node.func.attr, METHODS | own_methods, (path, node.lineno))
                 if isinstance(node, ast.FunctionDef) and node.name.startswith("__"):
                     self.assertIn(node.name, DUNDERS, path)
+
+    def test_comprehensions_have_names_of_their_own(self):
+        for path, _, tree in trees():
+            for function in [node for node in ast.walk(tree) if isinstance(node, ast.FunctionDef)]:
+                targets = [name for part in ast.walk(function) if isinstance(part, ast.comprehension)
+                           for name in ast.walk(part.target) if isinstance(name, ast.Name) and name.id != "_"]
+                others = {node.id for node in ast.walk(function) if isinstance(node, ast.Name)
+                          and isinstance(node.ctx, ast.Store) and node not in targets}
+                others |= {node.arg for node in ast.walk(function) if isinstance(node, ast.arg)}
+                self.assertFalse({name.id for name in targets} & others, (path, function.name))
 
     def test_sets_are_sorted_at_once(self):
         for path, _, tree in trees():
