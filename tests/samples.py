@@ -138,6 +138,15 @@ def read_no_error(call):
         return error
 
 
+def check_same(case, call, other):
+    """Both calls return equal values, or raise NotUsable with the same fields."""
+    told, expected = read_no_error(call), read_no_error(other)
+    if isinstance(expected, NotUsable):
+        case.assertEqual((type(told), told.word, told.at), (NotUsable, expected.word, expected.at))
+    else:
+        case.assertEqual(told, expected)
+
+
 def check_refusals(case, function, given, tests):
     """Hold a function's refusals against tests of its parameters.
 

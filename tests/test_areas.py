@@ -207,6 +207,19 @@ class CopiesTest(unittest.TestCase):
                 self.assertFalse(goes_in(lists, stock_of(sheet, sheets), lot_times(lot, many + 1)))
                 self.assertTrue(copies_for(lists, lot, sheet, many) <= sheets < copies_for(lists, lot, sheet, many + 1))
 
+    def test_most_copies_on_few_sheets(self):
+        short = set()
+        for lists in (TWO, THREE, ODD, ((1, 2, 4), (1, 3))):
+            sheet = block_of(lists)
+            for y, z in crossing_pairs(lists):
+                lot = tuple(sorted([(*y, 1), (*z, 1)]))
+                for sheets in range(1, 13):
+                    fitting = [many for many in range(sheets * sheet[0] * sheet[1] // area_of(lists, lot) + 1)
+                               if goes_in(lists, stock_of(sheet, sheets), lot_times(lot, many))]
+                    self.assertEqual(most_copies(lists, lot, sheet, sheets), fitting[-1])
+                    short.add(sheets * sheet[0] * sheet[1] // area_of(lists, lot) - fitting[-1])
+        self.assertGreater(max(short), 1)
+
     def test_first_one_more(self):
         rng = random.Random(91)
         found = set()

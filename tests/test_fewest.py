@@ -1,5 +1,6 @@
 """Points 63 to 66 and (G6): roundings, fewest sheets, least rolls."""
 
+import random
 import unittest
 from fractions import Fraction
 from math import ceil
@@ -16,7 +17,6 @@ from samples import (
     ODD, ROUND, SIX, THIRTY, THREE, TWELVE, TWO, check_calls, check_refusals, read_no_error, refusal_of)
 from test_search import as_lot, counts_beside, is_told, lots_of
 from test_staircases import WAYS, is_staircase_of
-import random
 import samples
 
 

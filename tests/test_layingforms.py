@@ -4,7 +4,7 @@ import random
 import unittest
 
 from onesheetmore.boxes import box_first
-from onesheetmore.errors import InvalidText, NotUsable
+from onesheetmore.errors import InvalidText
 from onesheetmore.layingclasses import Laying
 from onesheetmore.layingforms import exchanged, turned_laying
 from onesheetmore.layingreadings import read_laying
@@ -15,7 +15,7 @@ from onesheetmore.rests import rests_of, used_sheets
 from onesheetmore.sheetlayings import on_sheet
 from layingsamples import LAID, is_laying_of, pieces_of, random_layings, striped
 from samples import (
-    ANY, ODD, STOCK, THIRTY, THREE, TWO, all_kinds, changed, check_calls, check_refusals, read_no_error, refusal_of)
+    ANY, ODD, STOCK, THIRTY, THREE, TWO, all_kinds, changed, check_calls, check_refusals, check_same, refusal_of)
 from test_boxes import is_box_of
 import samples
 
@@ -184,21 +184,14 @@ class LayingClassTest(unittest.TestCase):
             self.assertEqual(one.used(), used_sheets(lists, stock, laying))
             for kind in all_kinds(lists):
                 for number in range(3):
-                    self.hold_same(lambda: one.nth(kind, number), lambda: nth_piece(lists, stock, laying, kind, number))
+                    check_same(self, lambda: one.nth(kind, number), lambda: nth_piece(lists, stock, laying, kind, number))
                     share = (0, 0, number, 0)
-                    self.hold_same(lambda: one.number(kind, share),
-                                   lambda: piece_number(lists, stock, laying, kind, share))
-                    self.hold_same(lambda: one.at_unit(0, 0, number, *kind[1:]),
-                                   lambda: piece_at(lists, stock, laying, 0, 0, number, *kind[1:]))
+                    check_same(self, lambda: one.number(kind, share),
+                               lambda: piece_number(lists, stock, laying, kind, share))
+                    check_same(self, lambda: one.at_unit(0, 0, number, *kind[1:]),
+                               lambda: piece_at(lists, stock, laying, 0, 0, number, *kind[1:]))
             for sort, sheet in ((0, 0), (0, 1), (1, 0), (2, 2)):
-                self.hold_same(lambda: one.on_sheet(sort, sheet), lambda: on_sheet(lists, stock, laying, sort, sheet))
-
-    def hold_same(self, call, other):
-        told, expected = read_no_error(call), read_no_error(other)
-        if isinstance(expected, NotUsable):
-            self.assertEqual((type(told), told.word, told.at), (NotUsable, expected.word, expected.at))
-        else:
-            self.assertEqual(told, expected)
+                check_same(self, lambda: one.on_sheet(sort, sheet), lambda: on_sheet(lists, stock, laying, sort, sheet))
 
     def test_large(self):
         lists, stock, laying = striped(300)

@@ -77,6 +77,9 @@ class LookupsTest(unittest.TestCase):
         check_refusals(self, piece_at, {**GIVEN, "sort": 1, "sheet": 1, "x": 3, "y": 0}, {
             **LAYING, "sort": samples.is_below(2), "sheet": samples.is_below(2), "x": samples.is_below(4),
             "y": samples.is_below(4)})
+        for kind, share in (((1, 0), (0, 0, 1, 0)), ((1, 0), (0, 0, 0, 2)), ((0, 1), (0, 0, 0, 1)), ((0, 1), (0, 0, 3, 0)),
+                            ((1, 1), (1, 0, 2, 0)), ((1, 1), (1, 0, 0, 2)), ((0, 0), (0, 1, 0, 0)), ((0, 0), (2, 0, 0, 0))):
+            self.assertEqual(refusal_of(lambda: piece_number(TWO, STOCK, LAID, kind, share)), ("share", -1))
         self.assertEqual(refusal_of(lambda: nth_piece(TWO, STOCK, LAID, (1, 1), 0)), ("number", -1))
         self.assertEqual(refusal_of(lambda: piece_at(TWO, STOCK, LAID, 0, 1, 0, 0)), ("sheet", -1))
         self.assertEqual(refusal_of(lambda: piece_at(TWO, STOCK, LAID, 0, 0, 3, 0)), ("x", -1))

@@ -3,7 +3,6 @@
 import unittest
 from itertools import product
 
-from onesheetmore.errors import NotUsable
 from onesheetmore.kinds import is_lot
 from onesheetmore.lots import lot_of, pieces_in
 from onesheetmore.numbering import share_by_number, share_number
@@ -15,7 +14,7 @@ from onesheetmore.verdicts import goes_in
 from onesheetmore.wheels import wheel_lot, wheel_refusal, wheel_spread
 from onesheetmore.wholes import useful_height, useful_width, whole_ways
 from samples import (
-    ODD, ONE_SIZE, SIDES, SIX, THREE, TWELVE, TWO, all_kinds, check_calls, check_refusals, read_no_error)
+    ODD, ONE_SIZE, SIDES, SIX, THREE, TWELVE, TWO, all_kinds, check_calls, check_refusals, check_same)
 import samples
 
 LISTS = [TWO, THREE, ODD, SIDES, ONE_SIZE, ((1, 4), (1, 3)), ((1, 5), (2, 4, 8)), ((2, 6), (1, 2, 6))]
@@ -101,17 +100,11 @@ class SharesClassTest(unittest.TestCase):
                 self.assertEqual(shares.count(a, b), share_count(lists, sheet, a, b))
                 for column, row in product(range(3), repeat=2):
                     for method, function in ((shares.number, share_number), (shares.over, top_over)):
-                        self.hold_same(lambda: method(a, b, column, row), lambda: function(lists, sheet, a, b, column, row))
+                        check_same(self, lambda: method(a, b, column, row),
+                                   lambda: function(lists, sheet, a, b, column, row))
                 for number in range(5):
-                    self.hold_same(lambda: shares.by_number(a, b, number),
-                                   lambda: share_by_number(lists, sheet, a, b, number))
-
-    def hold_same(self, call, other):
-        told, expected = read_no_error(call), read_no_error(other)
-        if isinstance(expected, NotUsable):
-            self.assertEqual((type(told), told.word, told.at), (NotUsable, expected.word, expected.at))
-        else:
-            self.assertEqual(told, expected)
+                    check_same(self, lambda: shares.by_number(a, b, number),
+                               lambda: share_by_number(lists, sheet, a, b, number))
 
     def test_refusals(self):
         shares = Shares(lists=THREE, sheet=(3, 2))
