@@ -60,7 +60,7 @@ def laid_in_boxes(lists, free, a, many):
 
 
 def laid_boxes(lists, stock, lot):
-    """A laying of a lot that goes in; above all heights, as much free ground is left as there can be."""
+    """A laying of a lot that goes in; at each height as much free ground is left as there can be."""
     counts = {entry[:2]: entry[2] for entry in lot}
     tops = whole_boxes(lists, stock)
     laid, free = [], []
