@@ -1,12 +1,19 @@
-"""What many files need: refusing a parameter, rounding up, merging triples."""
+"""What many files need: refusing a parameter or a paper, rounding up, merging triples."""
 
-from onesheetmore.errors import NotUsable
+from onesheetmore.errors import InvalidPaper, NotUsable
 
 
 def need(word, is_as_stated):
     """Raise NotUsable(word, -1) unless the parameter of that name is as stated."""
     if not is_as_stated:
         raise NotUsable(word, -1)
+
+
+def let(fault):
+    """Raise InvalidPaper of the fault (word, at), unless it is None."""
+    if fault is not None:
+        word, at = fault
+        raise InvalidPaper(word, at)
 
 
 def rounded_up(top, bottom):

@@ -28,10 +28,15 @@ def copies_for(lists, lot, sheet, many):
     return fewest(lists, lot_times(lists, lot, many), sheet)
 
 
-def most_copies(lists, lot, sheet, sheets):
-    """The most copies that go into so many sheets."""
+def need_copied(lists, lot, sheet):
+    """Refuse a lot without pieces, and what is no sheet of blocks."""
     need("lot", is_lot(lists, lot) and lot != ())
     need("sheet", is_sheet_of_blocks(lists, sheet))
+
+
+def most_copies(lists, lot, sheet, sheets):
+    """The most copies that go into so many sheets."""
+    need_copied(lists, lot, sheet)
     need("sheets", is_number(sheets))
     width, height = block_of(lists)
     stock = stock_of(sheet, sheets)

@@ -1,11 +1,11 @@
 """The fewest sheets of a lot."""
 
 from onesheetmore.common import need
-from onesheetmore.errors import NotWhole, Unfit
+from onesheetmore.errors import NotWhole
 from onesheetmore.kinds import is_lot, is_sheet
 from onesheetmore.lots import pieces_in
 from onesheetmore.roundings import sheets_by
-from onesheetmore.shares import share_count
+from onesheetmore.shares import need_shares
 from onesheetmore.staircases import staircases_of
 from onesheetmore.stocks import stock_of
 from onesheetmore.verdicts import goes_in
@@ -43,9 +43,7 @@ def fewest_in_shares(lists, lot, sheet):
     """The least number of such sheets into which the lot goes."""
     need("lot", is_lot(lists, lot))
     need("sheet", is_sheet(sheet))
-    for a, b, _ in lot:
-        if share_count(lists, sheet, a, b) == 0:
-            raise Unfit((a, b))
+    need_shares(lists, lot, sheet)
     return least_sheets(lists, lot, sheet)
 
 

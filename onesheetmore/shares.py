@@ -1,6 +1,7 @@
 """How many shares sheets have."""
 
 from onesheetmore.common import need
+from onesheetmore.errors import Unfit
 from onesheetmore.kinds import is_index, is_number
 
 
@@ -20,6 +21,13 @@ def share_count(lists, sheet, a, b):
     """How many shares (a, b) the sheet has."""
     need_kind(lists, a, b)
     return (sheet[0] // lists[0][a]) * (sheet[1] // lists[1][b])
+
+
+def need_shares(lists, lot, sheet):
+    """Unfit(kind) for the first kind of the lot of which the sheet has no share."""
+    for a, b, _ in lot:
+        if share_count(lists, sheet, a, b) == 0:
+            raise Unfit((a, b))
 
 
 def columns_in(lists, width):

@@ -1,7 +1,6 @@
 """The checker of spreads."""
 
-from onesheetmore.common import need
-from onesheetmore.errors import InvalidPaper
+from onesheetmore.common import let, need
 from onesheetmore.kinds import is_index
 from onesheetmore.lots import lot_of
 from onesheetmore.overlaps import first_overlap, piece_ground
@@ -48,8 +47,5 @@ def pieces_lot(lists, spread):
 
 def lets_spread(lists, stock, thing):
     """The lot of the spread; else InvalidPaper."""
-    fault = spread_fault(lists, stock, thing)
-    if fault is not None:
-        word, at = fault
-        raise InvalidPaper(word, at)
+    let(spread_fault(lists, stock, thing))
     return pieces_lot(lists, thing)

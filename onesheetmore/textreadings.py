@@ -5,6 +5,13 @@ from onesheetmore.errors import InvalidText
 from onesheetmore.kinds import is_sort, lot_fault, row_fault
 
 
+def lines_of(text):
+    """The lines of a text; "" has none."""
+    if text == "":
+        return []
+    return text.split("\n")
+
+
 def words_of(text):
     """The words of a line, parted at each single blank; some may be empty."""
     if text == "":

@@ -11,10 +11,15 @@ def lists_line(lists):
     return f"{across} | {up}"
 
 
+def lot_words(lot):
+    """The words of the line of a lot, whatever its lists."""
+    return [f"{a},{b}*{many}" for a, b, many in lot]
+
+
 def lot_line(lists, lot):
     """The line of the lot."""
     need("lot", is_lot(lists, lot))
-    return " ".join([f"{a},{b}*{many}" for a, b, many in lot])
+    return " ".join(lot_words(lot))
 
 
 def stock_line(stock):

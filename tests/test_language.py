@@ -12,11 +12,11 @@ LIBRARY = {"math": {"gcd"}}
 BUILTINS = {
     "len", "range", "enumerate", "zip", "min", "max", "sum", "abs", "sorted", "reversed", "int", "str", "bool", "list",
     "tuple", "dict", "set", "isinstance", "repr", "any", "all", "divmod", "ValueError"}
-METHODS = {"append", "extend", "get", "join", "partition", "split"}
+METHODS = {"append", "extend", "get", "join", "partition", "pop", "split"}
 DUNDERS = {"__init__", "__eq__", "__len__", "__add__", "__sub__", "__contains__"}
 STATEMENTS = (
     ast.Assign, ast.If, ast.While, ast.For, ast.Return, ast.Break, ast.Continue, ast.Pass, ast.Raise, ast.Expr,
-    ast.FunctionDef, ast.ClassDef, ast.ImportFrom)
+    ast.FunctionDef, ast.ClassDef, ast.ImportFrom, ast.Try)
 BARRED_EXPRESSIONS = (
     ast.GeneratorExp, ast.Lambda, ast.NamedExpr, ast.Await, ast.Div, ast.Pow, ast.MatMult)
 BARRED_NAMES = {
@@ -88,8 +88,10 @@ class LanguageTest(unittest.TestCase):
                 package, _, source = node.module.partition(".")
                 self.assertEqual(package, "onesheetmore", path)
                 graph[path.stem].add(source)
-                defined = ast.parse((PACKAGE / (source + ".py")).read_text(encoding="utf-8")).body
-                self.assertLessEqual(names, {one.name for one in defined if hasattr(one, "name")}, path)
+                body = ast.parse((PACKAGE / (source + ".py")).read_text(encoding="utf-8")).body
+                defined = {one.name for one in body if hasattr(one, "name")}
+                defined |= {one.targets[0].id for one in body if isinstance(one, ast.Assign)}
+                self.assertLessEqual(names, defined, path)
                 used = {one.id for one in ast.walk(tree) if isinstance(one, ast.Name)}
                 self.assertLessEqual(names, used, path)
         while graph:
@@ -112,6 +114,25 @@ class LanguageTest(unittest.TestCase):
                     self.assertTrue(node.name in DUNDERS or ast.get_docstring(node), (path, node.name))
             for node in tree.body:
                 self.assertIsInstance(node, (ast.Expr, ast.ImportFrom, ast.FunctionDef, ast.ClassDef, ast.Assign), path)
+
+    def test_own_errors_alone_are_caught(self):
+        for path, _, tree in trees():
+            own = {alias.name for node in imports_of(tree) if node.module == "onesheetmore.errors" for alias in node.names}
+            for node in ast.walk(tree):
+                if isinstance(node, ast.Try):
+                    self.assertEqual(node.finalbody, [], path)
+                    for handler in node.handlers:
+                        self.assertTrue(isinstance(handler.type, ast.Name) and handler.type.id in own, path)
+                if isinstance(node, ast.Raise) and node.exc is not None:
+                    self.assertTrue(isinstance(node.exc, ast.Call) and node.exc.func.id in own, path)
+
+    def test_no_name_is_a_method_and_an_attribute(self):
+        for path, _, tree in trees():
+            for owner in [node for node in tree.body if isinstance(node, ast.ClassDef)]:
+                methods = {node.name for node in owner.body if isinstance(node, ast.FunctionDef)}
+                attributes = {node.attr for node in ast.walk(owner) if isinstance(node, ast.Attribute)
+                              and isinstance(node.ctx, ast.Store)}
+                self.assertFalse(methods & attributes, path)
 
     def test_is_stands_beside_none(self):
         for path, _, tree in trees():
