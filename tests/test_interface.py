@@ -79,6 +79,31 @@ FUNCTIONS = {
                "most_copies(lists, lot, sheet, sheets)", "first_one_more(lists, lot, limit)"],
     "countpapers": ["fewest_paper(lists, lot, sheet)"],
     "countchecker": ["lets_fewest(lists, lot, sheet, thing)"],
+    "overs": ["crosses_over(x, y, z)", "first_over(lists, kinds)", "has_rule(lists, kinds)"],
+    "forks": ["fork_of(lists, kinds)", "sides_of(lists, kinds)"],
+    "grounds": ["own_ground(lists, stock, kinds)"],
+    "foes": ["foe_of(lists, kinds)", "foe_asks(lists, foe, spread)"],
+    "diaries": ["is_diary(lists, thing)", "diary_lot(lists, diary)", "diary_spread(lists, diary)",
+                "needless(lists, stock, diary)", "had_place(lists, stock, diary)"],
+    "diarychecker": ["lets_diary(lists, stock, thing)"],
+    "diarytexts": ["diary_text(lists, diary)"],
+    "diaryreadings": ["read_diary(lists, text)"],
+    "plans": ["is_plan(thing)", "cuts_in(plan)", "parts_of(lists, sheet, plan)",
+              "plan_of(lists, stock, laying, sort, sheet)"],
+    "planchecker": ["lets_plan(lists, sheet, thing)"],
+    "offcuts": ["offcuts_of(lists, stock, laying)", "scraps_of(lists, stock, laying)"],
+    "deskevents": ["is_event(thing)", "is_log(thing)"],
+    "replaying": ["replayed(lists, stock, log)"],
+    "desktexts": ["event_line(event)", "log_text(log)"],
+    "deskreadings": ["read_event(text)", "read_log(text)"],
+    "deskpapers": ["report(desk)"],
+    "chainrooms": ["chain_rooms(lists, stock, lot)", "chain_goes(lists, stock, lot)", "chain_sheets(lists, lot, sheet)"],
+    "linerooms": ["line_rooms(lists, sheet, lot, many, way)", "line_refusal(lists, sheet, lot, many)",
+                  "fewest_by_lines(lists, lot, sheet)"],
+    "linechecker": ["lets_line_refusal(lists, sheet, lot, many, thing)"],
+    "twosizes": ["two_counts(lists, sheet, lot)", "two_goes(lists, sheet, lot)", "two_spread(lists, sheet, lot)",
+                 "wheel_helps(lists, sheet, lot)"],
+    "answers": ["answer(lists, stock, lot)"],
 }
 
 CLASSES = {
@@ -109,6 +134,26 @@ CLASSES = {
         "Spread": ["__init__(self, lists, stock, pieces)", "__len__(self)", "__eq__(self, other)", "entries(self)",
                    "lot_of_it(self)", "pushed(self)", "anew(self)", "room_for(self, a, b)",
                    "shifted(self, number, x, y)"]},
+    "copyclasses": {
+        "Copies": ["__init__(self, lists, lot, sheet)", "sheets(self, t)", "area_sheets(self, t)", "one_more(self, t)",
+                   "period(self)", "most(self, sheets)"]},
+    "placing": {
+        "Placer": ["__init__(self, lists, stock, kinds)", "take(self, a, b, many)", "room(self, a, b)", "laid(self)",
+                   "taken(self)", "opened(self)"]},
+    "falling": {
+        "Falling": ["__init__(self, lists, stock, way)", "take(self, a, b, many)", "room(self, a, b)", "laid(self)",
+                    "taken(self)"]},
+    "diaryclasses": {
+        "Diary": ["__init__(self, lists, stock)", "__len__(self)", "__eq__(self, other)", "note(self, a, b, spot)",
+                  "entries(self)", "lot_of_it(self)", "spread_of_it(self)", "needless(self)", "had_place(self)"]},
+    "desks": {
+        "Desk": ["__init__(self, lists, stock)", "job(self, lot)", "buy(self, width, height, many)",
+                 "drop(self, width, height, many)", "go(self, event)", "barred(self, event)", "tried(self, event)",
+                 "undo(self, many)", "do_all(self, events, keep=False)", "stock_now(self)", "lot_done(self)",
+                 "tally(self)", "log(self)"]},
+    "answerclasses": {
+        "Answer": ["__init__(self, lists, stock, lot)", "__eq__(self, other)", "what(self)", "why(self)",
+                   "with_lot(self, lot)", "with_stock(self, stock)"]},
 }
 
 
