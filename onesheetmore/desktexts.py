@@ -9,7 +9,8 @@ def event_words(event):
     """The line of what is known to be an event."""
     if event[0] == "job":
         return " ".join(["job", *lot_words(event[1])])
-    return f"{event[0]} {stock_line((event[1:],))}"
+    sheets = stock_line((event[1:],))
+    return f"{event[0]} {sheets}"
 
 
 def event_line(event):

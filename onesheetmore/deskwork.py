@@ -18,22 +18,14 @@ def first_state(stock):
     return (settled_stock(stock), (), (0, 0, 0, 0, 0))
 
 
-def form_fault(lists, event):
-    """Why the event, whatever the stock, can not be done: "form" or "lot"; else None."""
-    if not is_event(event):
-        return "form"
-    if event[0] == "job" and not is_lot(lists, event[1]):
-        return "lot"
-    return None
-
-
 def event_fault(lists, stock, event):
     """Why the event can not be done: "form", "lot", "rooms" or "sheets"; None if it can."""
-    word = form_fault(lists, event)
-    if word is not None:
-        return word
-    if event[0] == "job" and not goes_in(lists, stock, event[1]):
-        return "rooms"
+    if not is_event(event):
+        return "form"
+    if event[0] == "job":
+        if not is_lot(lists, event[1]):
+            return "lot"
+        return None if goes_in(lists, stock, event[1]) else "rooms"
     if event[0] == "drop" and lessened(stock, (event[1:],)) is None:
         return "sheets"
     return None
@@ -62,7 +54,7 @@ def job_done(lists, state, lot):
 
 
 def event_done(lists, state, event):
-    """What doing the event returns, and the state behind it; its form and its lot are as they have to be."""
+    """What doing the event returns, and the state behind it."""
     stock, done, (jobs, bought, dropped, area, scraps) = state
     word = event_fault(lists, stock, event)
     if word == "rooms":

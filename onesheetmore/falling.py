@@ -19,7 +19,8 @@ class Falling:
         self.lists = lists
         self.stock = stock
         self.way = way
-        # By widths all is laid with widths and heights exchanged; the level is that of the pieces laid last.
+        # By widths all is laid with widths and heights exchanged. The level is the height index of the pieces
+        # laid last: the free boxes are in shares so high, and lower top bands are not among them yet.
         self.own_lists = lists if way == "heights" else turned_lists(lists)
         self.tops = whole_boxes(self.own_lists, stock if way == "heights" else turned_stock(stock))
         self.level = len(self.own_lists[1])

@@ -3,7 +3,7 @@
 from onesheetmore.common import need
 from onesheetmore.kinds import is_lot
 from onesheetmore.listforms import turned_lists, turned_lot, turned_stock
-from onesheetmore.shares import bands_in
+from onesheetmore.shares import top_part
 
 
 def wants_at(lists, lot, b, i):
@@ -15,7 +15,7 @@ def wants_at(lists, lot, b, i):
 def band_rooms(lists, stock, b, i):
     """The rooms (b, i) by heights that the sheets' top bands alone have."""
     return sum([
-        many * bands_in(lists, height)[b] * (width // lists[0][i])
+        many * top_part(lists[1], height, b) * (width // lists[0][i])
         for width, height, many in stock])
 
 

@@ -11,10 +11,15 @@ def need_kind(lists, a, b):
     need("b", is_index(b, len(lists[1])))
 
 
+def top_part(sizes, side, index):
+    """How often the size goes into the rest that the next greater one leaves of the side."""
+    rest = side if index + 1 == len(sizes) else side % sizes[index + 1]
+    return rest // sizes[index]
+
+
 def top_parts(sizes, side):
-    """For each size how often it goes into the rest that the next greater one leaves of the side."""
-    rests = [*[side % size for size in sizes[1:]], side]
-    return tuple([rest // size for rest, size in zip(rests, sizes)])
+    """As top_part, for each size."""
+    return tuple([top_part(sizes, side, i) for i in range(len(sizes))])
 
 
 def share_count(lists, sheet, a, b):

@@ -225,6 +225,20 @@ class DeskTest(unittest.TestCase):
         full.drop(width=1, height=5, many=2)
         self.assertEqual(full.stock_now(), ((2, 2, 2), (3, 3, 1)))
 
+    def test_by_name(self):
+        one, other = Desk(TWO, STOCK), Desk(lists=TWO, stock=STOCK)
+        given = repr((TWO, STOCK, LOG))
+        self.assertEqual(one.tried(LOG[0]), other.tried(event=LOG[0]))
+        self.assertEqual(one.barred(LOG[0]), other.barred(event=LOG[0]))
+        self.assertEqual(one.job(ROUND), other.job(lot=ROUND))
+        self.assertEqual(one.buy(3, 3, 2), other.buy(width=3, height=3, many=2))
+        self.assertEqual(one.go(LOG[2]), other.go(event=LOG[2]))
+        self.assertEqual(shown(one), shown(other))
+        self.assertEqual(one.undo(2), other.undo(many=2))
+        self.assertEqual(one.do_all(LOG[1:], True), other.do_all(keep=True, events=LOG[1:]))
+        self.assertEqual(shown(one), shown(other))
+        self.assertEqual(repr((TWO, STOCK, LOG)), given)
+
     def test_sheet_with_scraps(self):
         desk = Desk(((2, 4), (3,)), ((7, 8, 2),))
         self.assertEqual(desk.job(((1, 0, 1),))[2], ((2, 6, 1), (4, 3, 1)))
